@@ -1,0 +1,1 @@
+"""Ringrows: leagues by one written rule, for all numbers of teams at once."""
