@@ -4,9 +4,7 @@ from math import lcm
 
 from ringrows.checks import is_count, is_integer, is_list
 from ringrows.errors import InvalidFirst, InvalidNumber, InvalidPlace, InvalidRows, InvalidValues, TooMany
-from ringrows.polynomials import (
-    fewest_early, fewest_rows, first_positive, is_lasting, last_low, place_value, row_value, spread,
-)
+from ringrows.polynomials import fewest_early, fewest_rows, first_positive, is_lasting, last_low, place_value, spread
 
 MOST_VALUES = 200
 MOST_ROWS = 24
