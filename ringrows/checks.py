@@ -1,4 +1,6 @@
-"""What values are: INTEGERS, COUNTS, lists and MARKS."""
+"""What values are: INTEGERS, COUNTS, lists and MARKS; and the errors of parameters that many functions have."""
+
+from ringrows.errors import InvalidRound, InvalidSize, InvalidTeam
 
 CONTRARIES = {"h": "a", "a": "h"}
 
@@ -18,6 +20,11 @@ def is_list(value):
     return isinstance(value, (list, tuple))
 
 
+def is_mark(value):
+    """Whether any value is a mark."""
+    return isinstance(value, str) and value in CONTRARIES
+
+
 def is_marks(value):
     """Whether any value is a string of marks, the empty one included."""
     return isinstance(value, str) and value.count("h") + value.count("a") == len(value)
@@ -26,3 +33,29 @@ def is_marks(value):
 def contrary_marks(marks):
     """The string of the contraries of all marks."""
     return "".join([CONTRARIES[mark] for mark in marks])
+
+
+def check_size(rule, size):
+    """Refuses any value that is none of the sizes of a Rule."""
+    if not is_integer(size) or size < rule.least_size or size % 2 != 0:
+        raise InvalidSize(size)
+
+
+def check_team(team, teams):
+    """Refuses any value that is none of the first so many teams."""
+    if not is_count(team) or team >= teams:
+        raise InvalidTeam(team)
+
+
+def check_pair(one, other, teams):
+    """Refuses any two values that are not two different ones of the first so many teams."""
+    check_team(one, teams)
+    check_team(other, teams)
+    if one == other:
+        raise InvalidTeam(other)
+
+
+def check_day(day, rounds):
+    """Refuses any value that is none of so many rounds."""
+    if not is_count(day) or day >= rounds:
+        raise InvalidRound(day)

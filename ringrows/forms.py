@@ -4,7 +4,8 @@ from math import lcm
 
 from ringrows.checks import is_count, is_integer, is_list
 from ringrows.errors import InvalidFirst, InvalidNumber, InvalidPlace, InvalidRows, InvalidValues, TooMany
-from ringrows.polynomials import fewest_early, fewest_rows, first_positive, is_lasting, last_low, place_value, spread
+from ringrows.polynomials import fewest_early, fewest_rows, first_positive, fitted_row, is_lasting, last_low
+from ringrows.polynomials import place_value, spread
 
 MOST_VALUES = 200
 MOST_ROWS = 24
@@ -103,6 +104,16 @@ class Form:
 def reckoned_form(first, early, rows):
     """The Form with parts that the package reckoned, however many they are."""
     return Form(first, Reckoned(early), Reckoned(rows))
+
+
+def fitted_form(first, values, period):
+    """The reduced Form with these values from first on, if the last three of each rest are a row's values."""
+    begin = first + len(values) - 3 * period
+    rows = []
+    for rest in range(period):
+        place = begin + (rest - begin) % period
+        rows.append(fitted_row(values[place - first::period], place // period))
+    return reckoned_form(first, values[:begin - first], rows).reduced()
 
 
 def same_values(one, other):

@@ -15,6 +15,14 @@ def place_value(rows, place):
     return row_value(rows[rest], turn)
 
 
+def fitted_row(values, turn):
+    """The row of INTEGERS with these three values at the quotient turn and at the next two."""
+    one, two, three = values
+    a = (three - 2 * two + one) // 2
+    b = two - one - a * (2 * turn + 1)
+    return (a, b, one - (a * turn + b) * turn)
+
+
 def spread_row(row, many, ahead):
     """The row of the quotients ahead, ahead + many, ahead + 2 * many and so on of a row."""
     a, b, c = row

@@ -70,3 +70,90 @@ def unlike_place(one, other, end):
             if row[place - 1] != another[place - 1]:
                 return places, place
     return None
+
+
+STANDERS = ("home", "away", "even", "odd")
+
+
+def contrary(mark):
+    return {"h": "a", "a": "h"}[mark]
+
+
+def stander_is_home(stander, r):
+    return stander == "home" or stander == "even" and r % 2 == 0 or stander == "odd" and r % 2 == 1
+
+
+class League:
+    """A rule at a size, written out: the seats, marks and opponents of all teams in all rounds."""
+
+    def __init__(self, step, parts, stander, turned, n):
+        self.n = n
+        self.p = n // 2 - 1
+        self.seats, self.marks, self.faces = [], [], []
+        row = word_row(*parts, self.p)
+        for r in range(n - 1):
+            self.write_round(step, row, stander, turned, r)
+
+    def write_round(self, step, row, stander, turned, r):
+        n, p = self.n, self.p
+        team_at = {}
+        for k in range(-p, p + 1):
+            team_at[k] = (k + step * r) % (n - 1)
+        marks, faces, seats = [None] * n, [None] * n, [None] * (n - 1)
+        for k, x in team_at.items():
+            seats[x] = k
+            faces[x] = team_at[-k] if k != 0 else n - 1
+            if k != 0:
+                mark = row[k - 1] if k > 0 else contrary(row[-k - 1])
+                marks[x] = contrary(mark) if turned and r % 2 == 1 else mark
+        marks[n - 1] = "h" if stander_is_home(stander, r) else "a"
+        marks[team_at[0]] = contrary(marks[n - 1])
+        faces[n - 1] = team_at[0]
+        self.seats.append(seats)
+        self.marks.append(marks)
+        self.faces.append(faces)
+
+    def rounds(self):
+        """The rounds as a table has them."""
+        return [sorted((x, faces[x]) for x in range(self.n) if marks[x] == "h")
+                for marks, faces in zip(self.marks, self.faces)]
+
+    def row(self, team):
+        return "".join(marks[team] for marks in self.marks)
+
+    def met(self, one, other):
+        return [r for r in range(self.n - 1) if self.faces[r][one] == other]
+
+    def is_right(self):
+        return all(len(self.met(x, y)) == 1 for y in range(self.n) for x in range(y))
+
+    def breaks(self):
+        return sum(self.marks[r][x] == self.marks[r + 1][x] for x in range(self.n) for r in range(self.n - 2))
+
+    def is_seen(self, cells, r, x):
+        ring = self.n - 1
+        if r + max(t for _, t, _ in cells) > ring - 1:
+            return False
+        return all(self.marks[r + t][(x + d) % ring] == mark for d, t, mark in cells)
+
+    def seen(self, cells):
+        """All (round, team) at which a picture is seen, by rounds, then by teams."""
+        return [(r, x) for r in range(self.n - 1) for x in range(self.n - 1) if self.is_seen(cells, r, x)]
+
+
+def league(rule, n):
+    """The league of a Rule at a size."""
+    word = rule.word
+    return League(rule.step, (word.head, word.middle, word.tail), rule.stander, rule.turned, n)
+
+
+def told_on(values, place):
+    """The value at a place of the polynomial with three values at three places, a dict."""
+    total = Fraction(0)
+    for at, value in values.items():
+        part = Fraction(value)
+        for other in values:
+            if other != at:
+                part = part * (place - other) / (at - other)
+        total += part
+    return total

@@ -3,7 +3,7 @@ import inspect
 import unittest
 from pathlib import Path
 
-from ringrows import forms, words
+from ringrows import boards, breaks, forms, lines, pictures, rules, seats, tables, views, words
 
 README = Path(__file__).resolve().parent.parent / "README.md"
 
@@ -22,7 +22,48 @@ EXAMPLES = '''
 >>> [first_unlike_place(Word("", "ha", ""), Word("", "hah", "")),
 ...  first_unlike_place(Word("", "a", "a"), Word("a", "a", ""))]
 [(4, 4), None]
+>>> from ringrows.rules import Rule
+>>> from ringrows.seats import first_wrong, mark_of, opponent, rounds_of, seat
+>>> known = Rule(1, Word("", "ha", ""), "even")
+>>> [seat(known, 6, 3, 1), opponent(known, 6, 3, 1), mark_of(known, 6, 3, 1),
+...  rounds_of(known, 6, 3, 4), rounds_of(known, 6, 3, 5)]
+[2, 4, 'a', [1], [3]]
+>>> [first_wrong(Rule(6, Word("hh", "a", ""), "home")), first_wrong(Rule(-4, Word("", "a", ""), "odd")), str(known)]
+[10, None, '1 |ha| even plain']
+>>> from ringrows.lines import breaks_in, first_odd_pair, followings, stays_in
+>>> from ringrows.tables import Table, table_of
+>>> small = table_of(known, 4)
+>>> [small.rounds(), [small.row_of(team) for team in range(4)], stays_in("hhaaah")]
+[[[(1, 2), (3, 0)], [(1, 3), (2, 0)], [(0, 1), (3, 2)]], ['aah', 'hha', 'aha', 'hah'], [2, 3, 1]]
+>>> [first_odd_pair(table_of(Rule(3, Word("", "h", ""), "home"), 4)), breaks_in("ahh"),
+...  followings(small)[(0, 1)], (0, 2) in followings(small)]
+[(0, 1, 0), 1, 1, False]
+>>> from ringrows.pictures import Picture
+>>> from ringrows.views import bound, first_seen, form_of, number_at
+>>> twice = Picture([(0, 0, "h"), (0, 1, "h")])
+>>> [form_of(known, twice), number_at(known, 10 ** 30, twice), first_seen(known, twice), bound(known, twice)]
+[Form(1, [], [(0, 1, 0)]), 499999999999999999999999999999, (4, 0, 1), 4]
+>>> first_seen(known, Picture([(0, 0, "h"), (0, 1, "h"), (0, 2, "h")])) is None
+True
+>>> from ringrows.breaks import breaks_at, breaks_form, is_thrifty
+>>> [breaks_at(known, 6), breaks_form(known), is_thrifty(known)]
+[4, Form(1, [], [(0, 2, 0)]), True]
 '''
+
+# The functions and classes that the interface lists for each file.
+NAMES = {
+    forms: ["Form", "same_values", "first_unlike", "first_above", "above_from"],
+    words: ["Word", "same_rows", "first_unlike_place"],
+    rules: ["Rule"],
+    seats: ["seat", "opponent", "mark_of", "rounds_of", "is_right", "is_always_right", "first_wrong"],
+    tables: ["Table", "table_of"],
+    boards: ["Board"],
+    lines: ["breaks_in", "stays_in", "is_single", "first_odd_pair", "followings"],
+    pictures: ["Picture"],
+    views: ["is_seen", "number_in", "number_at", "bound", "form_of", "first_seen", "first_more", "seen_sizes",
+            "more_from"],
+    breaks: ["breaks_at", "breaks_form", "is_thrifty", "first_wasteful"],
+}
 
 
 class TestDocument(unittest.TestCase):
@@ -48,11 +89,26 @@ class TestDocument(unittest.TestCase):
             words.Word: ["head", "middle", "tail"], words.Word.row: ["self", "places"],
             words.Word.mark: ["self", "places", "place"], words.Word.homes: ["self", "places", "place"],
             words.same_rows: ["one", "other"], words.first_unlike_place: ["one", "other"],
+            rules.Rule: ["step", "word", "stander", "turned"],
+            seats.seat: ["rule", "size", "team", "day"], seats.opponent: ["rule", "size", "team", "day"],
+            seats.mark_of: ["rule", "size", "team", "day"], seats.rounds_of: ["rule", "size", "one", "other"],
+            seats.is_right: ["rule", "size"], seats.is_always_right: ["rule"], seats.first_wrong: ["rule"],
+            tables.Table: ["rounds"], tables.Table.meetings: ["self", "day"], tables.Table.row_of: ["self", "team"],
+            tables.Table.met_in: ["self", "one", "other"], tables.Table.with_turned: ["self", "meetings"],
+            tables.table_of: ["rule", "size"], boards.Board: ["table"], boards.Board.turn: ["self", "one", "other"],
+            boards.Board.take: ["self", "other"], lines.breaks_in: ["marks"], lines.stays_in: ["marks"],
+            lines.is_single: ["table"], lines.first_odd_pair: ["table"], lines.followings: ["table"],
+            pictures.Picture: ["cells"], views.is_seen: ["rule", "size", "picture", "day", "team"],
+            views.number_in: ["rule", "size", "picture", "day"], views.number_at: ["rule", "size", "picture"],
+            views.bound: ["rule", "picture"], views.form_of: ["rule", "picture"],
+            views.first_seen: ["rule", "picture"], views.first_more: ["rule", "picture", "other"],
+            views.seen_sizes: ["rule", "picture"], views.more_from: ["rule", "picture", "other"],
+            breaks.breaks_at: ["rule", "size"], breaks.breaks_form: ["rule"], breaks.is_thrifty: ["rule"],
+            breaks.first_wasteful: ["rule"],
         }
         for named, parameters in told.items():
             self.assertEqual(list(inspect.signature(named).parameters), parameters)
-        for module, names in ((forms, ("Form", "same_values", "first_unlike", "first_above", "above_from")),
-                              (words, ("Word", "same_rows", "first_unlike_place"))):
+        for module, names in NAMES.items():
             for name in names:
                 self.assertEqual(getattr(module, name).__module__, module.__name__)
 
@@ -62,6 +118,12 @@ class TestDocument(unittest.TestCase):
                          "__radd__", "__sub__", "__mul__", "__rmul__", "__neg__", "__eq__", "__repr__"],
             words.Word: ["head", "middle", "tail", "least", "row", "mark", "homes", "contrary", "reduced",
                          "__eq__", "__str__", "__repr__"],
+            rules.Rule: ["step", "word", "stander", "turned", "least_size", "contrary", "__eq__", "__str__",
+                         "__repr__"],
+            tables.Table: ["size", "rounds", "meetings", "row_of", "met_in", "with_turned", "__len__", "__eq__",
+                           "__repr__"],
+            boards.Board: ["table", "take", "turn", "__getitem__", "__setitem__", "__iadd__", "__len__"],
+            pictures.Picture: ["cells", "span", "contrary", "__eq__", "__str__", "__repr__"],
         }
         for kind, names in told.items():
             for name in names:

@@ -2,15 +2,40 @@
 
 import ast
 import builtins
+import re
 import unittest
 from pathlib import Path
 
 PACKAGE = Path(__file__).resolve().parent.parent / "ringrows"
 LIBRARY = ("math", "heapq", "itertools")
+METHODS = """append clear copy count endswith extend find get index insert isalnum isalpha isdigit islower isspace
+    isupper items join keys ljust lower lstrip partition pop remove replace reverse rfind rjust rpartition rsplit rstrip
+    setdefault split splitlines startswith strip update upper values zfill bit_length""".split()
+WORDS = """typing typing_extensions enum Enum IntEnum StrEnum Flag IntFlag Generic Protocol ABC ABCMeta namedtuple
+    NamedTuple TypedDict TYPE_CHECKING abstractmethod""".split()
+NAMES = "register mro elements open input law version_info type id dir compile exit help super vars copyright".split()
 
 
 def files():
     return [(path.name, path.read_text()) for path in sorted(PACKAGE.rglob("*.py"))]
+
+
+def nodes(kind):
+    """All (file, node) of a kind in the package."""
+    return [(name, node) for name, text in files() for node in ast.walk(ast.parse(text)) if isinstance(node, kind)]
+
+
+def classes():
+    """For each class its name, its methods, its properties, and the attributes that it assigns off self."""
+    told = []
+    for _, node in nodes(ast.ClassDef):
+        defined = [part for part in node.body if isinstance(part, ast.FunctionDef)]
+        properties = {part.name for part in defined
+                      if any(isinstance(over, ast.Name) and over.id == "property" for over in part.decorator_list)}
+        stored = {part.attr for part in ast.walk(node)
+                  if isinstance(part, ast.Attribute) and isinstance(part.ctx, ast.Store)}
+        told.append((node.name, {part.name for part in defined} - properties, properties, stored))
+    return told
 
 
 class TestLanguage(unittest.TestCase):
@@ -42,8 +67,11 @@ class TestLanguage(unittest.TestCase):
                 bound = [node.arg] if isinstance(node, ast.arg) else []
                 if isinstance(node, ast.Name) and isinstance(node.ctx, ast.Store):
                     bound = [node.id]
+                if isinstance(node, (ast.FunctionDef, ast.ClassDef)):
+                    bound = [node.name]
                 for told in bound:
-                    self.assertFalse(hasattr(builtins, told), (name, node.lineno, told))
+                    # An example that was run leaves a builtin _ behind.
+                    self.assertTrue(told.startswith("_") or not hasattr(builtins, told), (name, node.lineno, told))
 
     def test_all_any_and_the_like_take_lists(self):
         takers = ("any", "all", "min", "max", "sum", "sorted")
@@ -52,6 +80,75 @@ class TestLanguage(unittest.TestCase):
                 if isinstance(node, ast.Call) and isinstance(node.func, ast.Name) and node.func.id in takers:
                     for passed in node.args:
                         self.assertNotIsInstance(passed, ast.GeneratorExp, (name, node.lineno))
+
+    def test_no_name_of_a_class_or_an_import_is_a_local_one(self):
+        for name, text in files():
+            tree = ast.parse(text)
+            taken = {part.name for node in ast.walk(tree) if isinstance(node, ast.ImportFrom) for part in node.names}
+            taken |= {node.name for node in ast.walk(tree) if isinstance(node, ast.ClassDef)}
+            for node in ast.walk(tree):
+                if isinstance(node, ast.arg):
+                    self.assertNotIn(node.arg, taken, (name, node.lineno))
+                if isinstance(node, ast.Name) and isinstance(node.ctx, ast.Store):
+                    self.assertNotIn(node.id, taken, (name, node.lineno))
+
+    def test_imports_name_the_file_that_defines(self):
+        for name, node in nodes(ast.ImportFrom):
+            if node.module.startswith("ringrows."):
+                text = (PACKAGE / f"{node.module.removeprefix('ringrows.')}.py").read_text()
+                body = ast.parse(text).body
+                defined = [part.name for part in body if isinstance(part, (ast.FunctionDef, ast.ClassDef))]
+                defined += [part.targets[0].id for part in body if isinstance(part, ast.Assign)]
+                for part in node.names:
+                    self.assertIn(part.name, defined, (name, node.lineno))
+
+    def test_no_circle_of_imports(self):
+        behind = {path.stem: set() for path in PACKAGE.rglob("*.py")}
+        for name, node in nodes(ast.ImportFrom):
+            if node.module.startswith("ringrows."):
+                behind[name.removesuffix(".py")].add(node.module.removeprefix("ringrows."))
+        while behind:
+            free = [name for name, needed in behind.items() if not needed & set(behind)]
+            self.assertNotEqual(free, [], behind)
+            behind = {name: needed for name, needed in behind.items() if name not in free}
+
+    def test_nothing_is_added_in_place(self):
+        # A class has __iadd__, so += may not stand in what an operator or a property runs.
+        self.assertEqual([(name, node.lineno) for name, node in nodes(ast.AugAssign)], [])
+
+    def test_methods_of_builtin_values(self):
+        own = {method for _, methods, _, _ in classes() for method in methods}
+        for name, node in nodes(ast.Call):
+            if isinstance(node.func, ast.Attribute):
+                self.assertIn(node.func.attr, own | set(METHODS), (name, node.lineno))
+
+    def test_methods_properties_and_attributes(self):
+        methods = {name for _, told, _, _ in classes() for name in told}
+        builtin = {name for kind in (str, int, list, dict, set, bytes, tuple) for name in dir(kind)}
+        for name, told, properties, stored in classes():
+            self.assertEqual(properties & (methods | builtin), set(), name)
+            self.assertEqual(stored & (told | properties), set(), name)
+
+    def test_words_that_do_not_occur(self):
+        for name, text in files():
+            for word in re.findall("[A-Za-z_]+", text):
+                self.assertNotIn(word, WORDS, name)
+            self.assertNotIn("(type)", text)
+            self.assertNotIn("Meta", text)
+        for name, node in nodes((ast.Name, ast.arg, ast.FunctionDef)):
+            told = {ast.Name: "id", ast.arg: "arg", ast.FunctionDef: "name"}[node.__class__]
+            self.assertNotIn(getattr(node, told), NAMES, (name, node.lineno))
+        for name, node in nodes(ast.Constant):
+            if isinstance(node.value, str):
+                self.assertNotIn("%", node.value, (name, node.lineno))
+
+    def test_values(self):
+        for kind in (ast.Set, ast.SetComp, ast.Div, ast.Global, ast.AnnAssign, ast.Try, ast.Starred):
+            for name, node in nodes(kind):
+                self.assertEqual((kind, name), (ast.Starred, "views.py"))
+        for name, node in nodes(ast.BinOp):
+            if isinstance(node.op, ast.Pow):
+                self.assertIsInstance(node.right, ast.Constant, (name, node.lineno))
 
 
 if __name__ == "__main__":
