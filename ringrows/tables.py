@@ -22,6 +22,11 @@ class Table:
         """The number of teams."""
         return 2 * len(self._rounds[0])
 
+    @size.setter
+    def size(self, value):
+        # NotRight keeps an attribute of this name, so there must be a setter; a table still never changes.
+        raise AttributeError("a table never changes")
+
     def rounds(self):
         """The list of the sorted lists of the meetings."""
         return [list(meetings) for meetings in self._rounds]

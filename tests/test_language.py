@@ -129,6 +129,25 @@ class TestLanguage(unittest.TestCase):
             self.assertEqual(properties & (methods | builtin), set(), name)
             self.assertEqual(stored & (told | properties), set(), name)
 
+    def test_an_assigned_name_is_no_property_without_a_setter(self):
+        assigned = {node.attr for _, node in nodes(ast.Attribute) if isinstance(node.ctx, ast.Store)}
+        self.assertIn("size", assigned)
+        for name, node in nodes(ast.ClassDef):
+            told, settable = set(), set()
+            for part in node.body:
+                for over in getattr(part, "decorator_list", []):
+                    if isinstance(over, ast.Name) and over.id == "property":
+                        told.add(part.name)
+                    if isinstance(over, ast.Attribute) and over.attr == "setter":
+                        settable.add(part.name)
+            self.assertEqual(told & assigned - settable, set(), (name, node.name))
+
+    def test_no_method_is_read_off_a_class(self):
+        # Names that are attributes of one class and properties of another one would not be let then.
+        kinds = {node.name for _, node in nodes(ast.ClassDef)}
+        for name, node in nodes(ast.Attribute):
+            self.assertFalse(isinstance(node.value, ast.Name) and node.value.id in kinds, (name, node.lineno))
+
     def test_words_that_do_not_occur(self):
         for name, text in files():
             for word in re.findall("[A-Za-z_]+", text):

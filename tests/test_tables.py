@@ -1,7 +1,7 @@
 import unittest
 from random import Random
 
-from ringrows.errors import InvalidFixed, InvalidRound, InvalidRounds, InvalidSize, InvalidTeam, TooMany
+from ringrows.errors import InvalidFixed, InvalidRound, InvalidRounds, InvalidSize, InvalidTeam, NotRight, TooMany
 from ringrows.rules import Rule
 from ringrows.tables import Table, table_of
 from ringrows.words import Word
@@ -73,6 +73,30 @@ class TestMade(Refusing, unittest.TestCase):
         table.meetings(0).clear()
         table.met_in(0, 3).clear()
         self.assertEqual((table.rounds(), table.met_in(0, 3)), ([DAY, DAY], [0, 1]))
+
+    def test_a_table_never_changes(self):
+        for size in (4, 6, 24):
+            table = table_of(KNOWN, size)
+            rounds, row, told = table.rounds(), table.row_of(size - 1), repr(table)
+            for other in (size, size + 2, 4, 0, None, True):
+                with self.assertRaises(AttributeError):
+                    table.size = other
+                with self.assertRaises(AttributeError):
+                    NotRight.__init__(table, other)
+            # What was told, and what was passed, is changed; the table is not.
+            table.rounds()[0].reverse()
+            given = [list(meetings) for meetings in rounds]
+            made = Table(given)
+            given[0].clear()
+            del given[1:]
+            for kept in (table, made):
+                self.assertEqual((kept.size, len(kept), kept.rounds(), kept.row_of(size - 1), repr(kept)),
+                                 (size, size - 1, rounds, row, told))
+        for size in (4, 24, 10 ** 60, None, True, "4"):
+            error = NotRight(size)
+            self.assertIs(error.size, size)
+            error.size = 6
+            self.assertEqual(error.size, 6)
 
     def test_sizes_and_lengths(self):
         random = Random(41)
