@@ -35,9 +35,14 @@ def contrary_marks(marks):
     return "".join([CONTRARIES[mark] for mark in marks])
 
 
+def is_size(rule, value):
+    """Whether any value is one of the sizes of a Rule."""
+    return is_integer(value) and value >= rule.least_size and value % 2 == 0
+
+
 def check_size(rule, size):
     """Refuses any value that is none of the sizes of a Rule."""
-    if not is_integer(size) or size < rule.least_size or size % 2 != 0:
+    if not is_size(rule, size):
         raise InvalidSize(size)
 
 

@@ -84,17 +84,26 @@ def check_meetings(table, meetings):
         told[meeting] = True
 
 
+def are_meetings(table, value):
+    """Whether any value is a list of different meetings of a Table."""
+    try:
+        check_meetings(table, value)
+    except InvalidFixed:
+        return False
+    return True
+
+
 def _check_rounds(rounds):
     if not is_list(rounds) or len(rounds) == 0:
         raise InvalidRounds(None)
     for position, meetings in enumerate(rounds):
-        if not _is_round(meetings) or len(meetings) != len(rounds[0]):
+        if not is_round(meetings) or len(meetings) != len(rounds[0]):
             raise InvalidRounds(position)
     if len(rounds) > MOST_ROUNDS:
         raise TooMany("rounds", MOST_ROUNDS)
 
 
-def _is_round(value):
+def is_round(value):
     """Whether any value is a round of some size."""
     if not is_list(value) or len(value) < FEWEST_MEETINGS or len(value) > MOST_MEETINGS:
         return False

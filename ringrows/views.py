@@ -1,8 +1,9 @@
 """Where pictures are seen [52], and how often: at one size, and at all of them."""
 
 from ringrows.checks import check_day, check_size, check_team
+from ringrows.counts import bound_of, seats_with
 from ringrows.forms import above_from, first_above, fitted_form
-from ringrows.seats import mark_of, ring_marks
+from ringrows.seats import mark_of
 
 
 def is_seen(rule, size, picture, day, team):
@@ -30,9 +31,7 @@ def number_at(rule, size, picture):
 
 def bound(rule, picture):
     """The bound of a picture for a rule [55]."""
-    aheads = [0] + [team - rule.step * later for team, later, _ in picture.cells]
-    width = max(aheads) - min(aheads) + 1
-    return 2 * width + len(rule.word.head) + len(rule.word.tail)
+    return bound_of(rule, [team - rule.step * later for team, later, _ in picture.cells])
 
 
 def form_of(rule, picture):
@@ -103,26 +102,5 @@ def _number(rule, places, picture):
 
 def _teams(rule, places, picture, day):
     """At how many teams a picture is seen in each round with room for it that is even or odd, as the day is."""
-    begin = bound(rule, picture)
-    period = len(rule.word.middle)
-    if places < begin + period:
-        return _counted(rule, places, picture, day)
-    # From the bound on, each further middle adds as many teams as any other one.
-    near = begin + (places - begin) % period
-    few = _counted(rule, near, picture, day)
-    more = _counted(rule, near + period, picture, day) - few
-    return few + (places - near) // period * more
-
-
-def _counted(rule, places, picture, day):
-    """The same as _teams, by going through all seats."""
-    wanted = tuple([cell[2] for cell in picture.cells])
-    rows = [_marks_ahead(rule, places, team - rule.step * later, day + later) for team, later, _ in picture.cells]
-    return list(zip(*rows)).count(wanted)
-
-
-def _marks_ahead(rule, places, ahead, day):
-    """For each seat, in the sequence of ring_marks, the mark at the seat so far ahead."""
-    marks = ring_marks(rule, places, day)
-    begin = ahead % len(marks)
-    return marks[begin:] + marks[:begin]
+    cells = [(team - rule.step * later, day + later, mark) for team, later, mark in picture.cells]
+    return seats_with(rule, places, cells)

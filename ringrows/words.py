@@ -2,6 +2,7 @@
 
 from ringrows.checks import contrary_marks, is_integer, is_marks
 from ringrows.errors import InvalidMarks, InvalidPlace, TooMany
+from ringrows.pieces import times_said
 
 MOST_MARKS = 4
 MOST_PLACES = 2000
@@ -69,7 +70,7 @@ class Word:
         end = places - len(self._tail)
         in_head = self._head[:place].count("h")
         in_tail = self._tail[:max(0, place - end)].count("h")
-        return in_head + _homes_said(self._middle, max(0, min(place, end) - begin)) + in_tail
+        return in_head + times_said(self._middle, "h", max(0, min(place, end) - begin)) + in_tail
 
     def contrary(self):
         """The Word with the contraries of all marks."""
@@ -131,12 +132,6 @@ def _first_difference(row, other):
     while row[place - 1] == other[place - 1]:
         place = place + 1
     return place
-
-
-def _homes_said(middle, many):
-    """How many marks "h" the first so many marks have of a middle that is said again and again."""
-    turns, rest = divmod(many, len(middle))
-    return turns * middle.count("h") + middle[:rest].count("h")
 
 
 def _shortest_said(middle):

@@ -157,3 +157,80 @@ def told_on(values, place):
                 part = part * (place - other) / (at - other)
         total += part
     return total
+
+
+def season_days(n, legs):
+    """The numbers of the rounds of all legs, a list for each."""
+    told = []
+    for begin, way, _ in legs:
+        days = []
+        for i in range(n - 1):
+            number = begin + way * i
+            while number < 0:
+                number += n - 1
+            while number > n - 2:
+                number -= n - 1
+            days.append(number)
+        told.append(days)
+    return told
+
+
+def season_rows(rule, n, legs):
+    """The rows of all teams along a season."""
+    marks = league(rule, n).marks
+    rows = []
+    for x in range(n):
+        row = ""
+        for days, (_, _, exchanged) in zip(season_days(n, legs), legs):
+            row += "".join(contrary(marks[r][x]) if exchanged else marks[r][x] for r in days)
+        rows.append(row)
+    return rows
+
+
+def breaks_of(row):
+    return sum(one == other for one, other in zip(row, row[1:]))
+
+
+def homes_by_team(rounds, n):
+    homes = [0] * n
+    for meetings in rounds:
+        for home, _ in meetings:
+            homes[home] += 1
+    return homes
+
+
+def even_homes(homes):
+    return all(2 * many in (len(homes), len(homes) - 2) for many in homes)
+
+
+def fewest_turned(rounds, n, fixed):
+    """How many meetings have to be turned at least, by turning all sets of those that are not fixed, or None."""
+    free = [meeting for meetings in rounds for meeting in meetings if meeting not in fixed]
+    homes = homes_by_team(rounds, n)
+    least = [None]
+
+    def turn(at, many):
+        if even_homes(homes) and (least[0] is None or many < least[0]):
+            least[0] = many
+        for k in range(at, len(free)):
+            home, away = free[k]
+            homes[home] -= 1
+            homes[away] += 1
+            turn(k + 1, many + 1)
+            homes[home] += 1
+            homes[away] -= 1
+
+    turn(0, 0)
+    return least[0]
+
+
+def gauge_show(rounds, n, fixed, gauge):
+    """What a gauge shows; of all targets the least sum is that of a sequence by gauges, tried in both directions."""
+    homes = homes_by_team(rounds, n)
+    sums = []
+    for teams in (sorted(range(n), key=lambda team: gauge[team]), sorted(range(n), key=lambda team: -gauge[team])):
+        greater = teams[:n // 2]
+        sums.append(sum(gauge[team] * (n // 2 - (team not in greater) - homes[team]) for team in range(n)))
+    spent = [gauge[away] - gauge[home] - 1 for meetings in rounds for home, away in meetings
+             if (home, away) not in fixed]
+    return min(sums) - sum(gap for gap in spent if gap > 0)

@@ -3,7 +3,8 @@ import inspect
 import unittest
 from pathlib import Path
 
-from ringrows import boards, breaks, forms, lines, pictures, rules, seats, tables, views, words
+from ringrows import (along, boards, breaks, forms, lines, lots, mends, pictures, rules, seasons, seats, tables,
+                      views, words)
 
 README = Path(__file__).resolve().parent.parent / "README.md"
 
@@ -46,8 +47,24 @@ EXAMPLES = '''
 >>> first_seen(known, Picture([(0, 0, "h"), (0, 1, "h"), (0, 2, "h")])) is None
 True
 >>> from ringrows.breaks import breaks_at, breaks_form, is_thrifty
->>> [breaks_at(known, 6), breaks_form(known), is_thrifty(known)]
-[4, Form(1, [], [(0, 2, 0)]), True]
+>>> from ringrows.seasons import repeats, season_breaks, season_rounds
+>>> [breaks_at(known, 6), breaks_form(known), is_thrifty(known), season_rounds(6, [(1, -1, True)])]
+[4, Form(1, [], [(0, 2, 0)]), True, [1, 0, 4, 3, 2]]
+>>> [repeats(4, [(0, 1, False), (2, 1, True)]), season_breaks(known, 4, [(0, 1, False), (0, 1, True)])]
+[[0], 6]
+>>> from ringrows.along import break_round, breaks_until, home_round, homes_until, stay_at
+>>> [homes_until(known, 6, 3, 5), breaks_until(known, 6, 3, 5), home_round(known, 6, 3, 2),
+...  break_round(known, 6, 3, 1), stay_at(known, 6, 3, 3)]
+[3, 1, 2, 2, (2, 3)]
+>>> homes_until(known, 10 ** 40, 10 ** 40 - 1, 10 ** 39 + 1)
+500000000000000000000000000000000000001
+>>> from ringrows.lots import lacking_lot, room
+>>> from ringrows.mends import mend, mend_size, shown
+>>> [room(["haa", "haa", "ahh", "ahh"], (0, 2)), lacking_lot(["haa", "haa", "ahh", "ahh"])]
+[3, (0, 1)]
+>>> lean = Table([[(0, 1), (2, 3)], [(0, 2), (1, 3)], [(0, 3), (1, 2)]])
+>>> [mend(lean), mend_size(lean, [(0, 3)]), shown(lean, [], [0, 0, 0, 1])]
+[[(0, 3)], 2, 1]
 '''
 
 # The functions and classes that the interface lists for each file.
@@ -63,6 +80,10 @@ NAMES = {
     views: ["is_seen", "number_in", "number_at", "bound", "form_of", "first_seen", "first_more", "seen_sizes",
             "more_from"],
     breaks: ["breaks_at", "breaks_form", "is_thrifty", "first_wasteful"],
+    seasons: ["season_rounds", "season_row", "season_breaks", "border_breaks", "season_form", "repeats", "pair_homes"],
+    along: ["homes_until", "breaks_until", "home_round", "break_round", "stay_at"],
+    lots: ["room", "is_lacking", "lacking_lot"],
+    mends: ["is_even", "mend", "mend_size", "is_mend", "shown", "gauge_of"],
 }
 
 
@@ -105,9 +126,23 @@ class TestDocument(unittest.TestCase):
             views.seen_sizes: ["rule", "picture"], views.more_from: ["rule", "picture", "other"],
             breaks.breaks_at: ["rule", "size"], breaks.breaks_form: ["rule"], breaks.is_thrifty: ["rule"],
             breaks.first_wasteful: ["rule"],
+            seasons.season_rounds: ["size", "legs"], seasons.season_row: ["rule", "size", "legs", "team"],
+            seasons.season_breaks: ["rule", "size", "legs"],
+            seasons.border_breaks: ["rule", "size", "legs", "border"], seasons.season_form: ["rule", "legs"],
+            seasons.repeats: ["size", "legs"], seasons.pair_homes: ["rule", "size", "legs", "one", "other"],
+            along.homes_until: ["rule", "size", "team", "rounds"],
+            along.breaks_until: ["rule", "size", "team", "rounds"],
+            along.home_round: ["rule", "size", "team", "number"],
+            along.break_round: ["rule", "size", "team", "number"], along.stay_at: ["rule", "size", "team", "day"],
+            lots.room: ["rows", "lot"], lots.is_lacking: ["rows", "lot"], lots.lacking_lot: ["rows"],
+            mends.is_even: ["table"], mends.mend: ["table", "fixed"], mends.mend_size: ["table", "fixed"],
+            mends.is_mend: ["table", "fixed", "value"], mends.shown: ["table", "fixed", "gauge"],
+            mends.gauge_of: ["table", "fixed"],
         }
         for named, parameters in told.items():
             self.assertEqual(list(inspect.signature(named).parameters), parameters)
+        for named in (mends.mend, mends.mend_size, mends.gauge_of):
+            self.assertEqual(inspect.signature(named).parameters["fixed"].default, ())
         for module, names in NAMES.items():
             for name in names:
                 self.assertEqual(getattr(module, name).__module__, module.__name__)

@@ -6,6 +6,8 @@ import re
 import unittest
 from pathlib import Path
 
+from ringrows import errors
+
 PACKAGE = Path(__file__).resolve().parent.parent / "ringrows"
 LIBRARY = ("math", "heapq", "itertools")
 METHODS = """append clear copy count endswith extend find get index insert isalnum isalpha isdigit islower isspace
@@ -162,12 +164,33 @@ class TestLanguage(unittest.TestCase):
                 self.assertNotIn("%", node.value, (name, node.lineno))
 
     def test_values(self):
-        for kind in (ast.Set, ast.SetComp, ast.Div, ast.Global, ast.AnnAssign, ast.Try, ast.Starred):
-            for name, node in nodes(kind):
-                self.assertEqual((kind, name), (ast.Starred, "views.py"))
+        for kind in (ast.Set, ast.SetComp, ast.Div, ast.Global, ast.AnnAssign, ast.GeneratorExp, ast.NamedExpr):
+            self.assertEqual([(name, node.lineno) for name, node in nodes(kind)], [], kind)
+        zipped = [(name, part.lineno, part.col_offset) for name, node in nodes(ast.Call)
+                  if isinstance(node.func, ast.Name) and node.func.id == "zip" for part in node.args]
+        for name, node in nodes(ast.Starred):
+            self.assertIn((name, node.lineno, node.col_offset), zipped)
         for name, node in nodes(ast.BinOp):
             if isinstance(node.op, ast.Pow):
                 self.assertIsInstance(node.right, ast.Constant, (name, node.lineno))
+
+    def test_own_errors_alone_are_caught(self):
+        for name, node in nodes(ast.Try):
+            self.assertEqual((node.finalbody, node.orelse), ([], []), (name, node.lineno))
+            for handler in node.handlers:
+                told = handler.type.elts if isinstance(handler.type, ast.Tuple) else [handler.type]
+                for kind in told:
+                    self.assertIs(getattr(errors, kind.id).__module__, errors.__name__, (name, node.lineno))
+
+    def test_modules_hold_plain_values(self):
+        for name, text in files():
+            for node in ast.parse(text).body:
+                if isinstance(node, ast.Assign):
+                    self.assertEqual(len(node.targets), 1, (name, node.lineno))
+                    self.assertFalse(any(isinstance(part, ast.Call) for part in ast.walk(node)), (name, node.lineno))
+                else:
+                    kinds = (ast.Expr, ast.ImportFrom, ast.FunctionDef, ast.ClassDef)
+                    self.assertIsInstance(node, kinds, (name, node.lineno))
 
 
 if __name__ == "__main__":
