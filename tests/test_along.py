@@ -227,7 +227,8 @@ class TestRefused(Refusing, unittest.TestCase):
                     wrong = {InvalidCount: [-1, n, n + 1], InvalidNumber: [0, -1, -n], InvalidRound: [-1, n - 1, n]}
                     for value in NO_INTEGERS + wrong[kind] + [-FAR]:
                         self.refused(kind, value, call, KNOWN, n, team, value)
-                self.assertEqual(homes_until(KNOWN, n, team, n - 1) + homes_until(KNOWN.contrary(), n, team, n - 1), n - 1)
+                self.assertEqual(homes_until(KNOWN, n, team, n - 1) + homes_until(KNOWN.contrary(), n, team, n - 1),
+                                 n - 1)
                 self.assertEqual(stay_at(KNOWN, n, team, n - 2)[1], n - 2)
 
 

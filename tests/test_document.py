@@ -3,8 +3,8 @@ import inspect
 import unittest
 from pathlib import Path
 
-from ringrows import (along, boards, breaks, forms, lines, lots, mends, pictures, rules, seasons, seats, tables,
-                      views, words)
+from ringrows import (along, behind, boards, breaks, desk, forms, judge, lines, lots, mends, pictures, rules, seasons,
+                      seats, tables, texts, views, words)
 
 README = Path(__file__).resolve().parent.parent / "README.md"
 
@@ -58,13 +58,19 @@ True
 [3, 1, 2, 2, (2, 3)]
 >>> homes_until(known, 10 ** 40, 10 ** 40 - 1, 10 ** 39 + 1)
 500000000000000000000000000000000000001
+>>> from ringrows.behind import rule_behind
 >>> from ringrows.lots import lacking_lot, room
 >>> from ringrows.mends import mend, mend_size, shown
->>> [room(["haa", "haa", "ahh", "ahh"], (0, 2)), lacking_lot(["haa", "haa", "ahh", "ahh"])]
-[3, (0, 1)]
+>>> [room(["haa", "haa", "ahh", "ahh"], (0, 2)), lacking_lot(["haa", "haa", "ahh", "ahh"]), rule_behind(small)]
+[3, (0, 1), Rule(1, Word('', 'h', ''), 'even', False)]
 >>> lean = Table([[(0, 1), (2, 3)], [(0, 2), (1, 3)], [(0, 3), (1, 2)]])
 >>> [mend(lean), mend_size(lean, [(0, 3)]), shown(lean, [], [0, 0, 0, 1])]
 [[(0, 3)], 2, 1]
+>>> from ringrows.desk import Desk
+>>> desk = Desk(known, 4)
+>>> desk.do_all("round", "play 1 2 3 1", "put off 3 0", "next", "waiting", "play 3 0 2 2", "points 0", "table", "undo",
+...             "round")
+['1-2 3-0', 'done', 'done', 'done', '3-0', 'done', '1', '1 0 3 2', 'done', '1-3 2-0']
 '''
 
 # The functions and classes that the interface lists for each file.
@@ -84,6 +90,10 @@ NAMES = {
     along: ["homes_until", "breaks_until", "home_round", "break_round", "stay_at"],
     lots: ["room", "is_lacking", "lacking_lot"],
     mends: ["is_even", "mend", "mend_size", "is_mend", "shown", "gauge_of"],
+    behind: ["is_behind", "rule_behind"],
+    texts: ["read_word", "read_rule", "read_picture", "table_text", "read_table"],
+    judge: ["is_claim", "is_true", "paper", "is_paper", "is_right_form", "is_right_for_breaks"],
+    desk: ["Desk"],
 }
 
 
@@ -137,7 +147,13 @@ class TestDocument(unittest.TestCase):
             lots.room: ["rows", "lot"], lots.is_lacking: ["rows", "lot"], lots.lacking_lot: ["rows"],
             mends.is_even: ["table"], mends.mend: ["table", "fixed"], mends.mend_size: ["table", "fixed"],
             mends.is_mend: ["table", "fixed", "value"], mends.shown: ["table", "fixed", "gauge"],
-            mends.gauge_of: ["table", "fixed"],
+            mends.gauge_of: ["table", "fixed"], behind.is_behind: ["rule", "table"], behind.rule_behind: ["table"],
+            texts.read_word: ["text"], texts.read_rule: ["text"], texts.read_picture: ["text"],
+            texts.table_text: ["table"], texts.read_table: ["text"], judge.is_claim: ["value"],
+            judge.is_true: ["claim"], judge.paper: ["claim"], judge.is_paper: ["claim", "value"],
+            judge.is_right_form: ["rule", "picture", "value"], judge.is_right_for_breaks: ["rule", "value"],
+            desk.Desk: ["rule", "size"], desk.Desk.do: ["self", "command"], desk.Desk.do_all: ["self", "commands"],
+            desk.Desk.trial: ["self"], desk.Desk.tried: ["self", "action"], desk.Desk.results: ["self"],
         }
         for named, parameters in told.items():
             self.assertEqual(list(inspect.signature(named).parameters), parameters)
@@ -159,6 +175,7 @@ class TestDocument(unittest.TestCase):
                            "__repr__"],
             boards.Board: ["table", "take", "turn", "__getitem__", "__setitem__", "__iadd__", "__len__"],
             pictures.Picture: ["cells", "span", "contrary", "__eq__", "__str__", "__repr__"],
+            desk.Desk: ["do", "do_all", "trial", "tried", "open_round", "undoable", "results"],
         }
         for kind, names in told.items():
             for name in names:

@@ -8,8 +8,10 @@ from ringrows.tables import table_of
 from tests.made import KNOWN, NO_INTEGERS, Refusing, random_rule
 
 FOUR = ["haa", "haa", "ahh", "ahh"]
-NO_ROW = [None, True, 0, 3, "", "x", "haA", "ha ", "hah ", " ha", "h a", "h|a", b"haa", ["h", "a", "a"], ("h", "a", "a"),
-          [], {}, KNOWN, "h" * 31, "ha" * 200]
+NO_ROW = [
+    None, True, 0, 3, "", "x", "haA", "ha ", "hah ", " ha", "h a", "h|a", b"haa", ["h", "a", "a"], ("h", "a", "a"),
+    [], {}, KNOWN, "h" * 31, "ha" * 200,
+]
 
 
 def random_rows(random):
@@ -107,7 +109,8 @@ class TestRefused(Refusing, unittest.TestCase):
 
     def test_first_wrong_row(self):
         for wrong in NO_ROW:
-            for rows, position in (([wrong, "haa"], 0), ([wrong] * 12, 0), (["haa", wrong], 1), (("haa", "aah", wrong), 2),
+            for rows, position in (([wrong, "haa"], 0), ([wrong] * 12, 0), (["haa", wrong], 1),
+                                   (("haa", "aah", wrong), 2),
                                    (["haa"] * 11 + [wrong], 11), (["haa", "aah", wrong, "h", None], 2)):
                 for call, *told in self.calls(rows):
                     self.refused(InvalidRows, position, call, *told)

@@ -137,7 +137,8 @@ class TestMends(unittest.TestCase):
         gauge_of(LEAN, fixed)
         shown(LEAN, fixed, gauge)
         is_mend(LEAN, fixed, value)
-        self.assertEqual((fixed, gauge, value, LEAN.rounds()), ([(0, 3), (0, 1)], [3, -2, 0, 9], [(1, 3), (0, 2)], rounds))
+        self.assertEqual((fixed, gauge, value, LEAN.rounds()),
+                         ([(0, 3), (0, 1)], [3, -2, 0, 9], [(1, 3), (0, 2)], rounds))
         mend(LEAN).append(None)
         gauge_of(LEAN).append(None)
         self.assertEqual((mend(LEAN), len(gauge_of(LEAN))), ([(0, 3)], 4))
@@ -164,8 +165,10 @@ class TestIsMend(unittest.TestCase):
         self.assertIs(is_mend(value=[(0, 3)], fixed=[(0, 1)], table=LEAN), True)
         self.assertIs(is_mend(LEAN, [(0, 3)], [(0, 3)]), False)
         for value in (None, True, 0, 1, "03", "", b"", {}, {(0, 3): True}, LEAN, KNOWN, (0, 3), [0, 3], [[0, 3]], [()],
-                      [(3, 0)], [(0, 3), (0, 3)], [(0, 3), None], [None, (0, 3)], [(0, True)], [(False, 3)], [(0, 3, 1)],
-                      [(0, 4)], [("0", "3")], ["03"], [(0, 3), (0, 1)], [], (), [{}], [[]], [(0, [3])], [(0, 10 ** 60)]):
+                      [(3, 0)], [(0, 3), (0, 3)], [(0, 3), None], [None, (0, 3)], [(0, True)], [(False, 3)],
+                      [(0, 3, 1)],
+                      [(0, 4)], [("0", "3")], ["03"], [(0, 3), (0, 1)], [], (), [{}], [[]], [(0, [3])],
+                      [(0, 10 ** 60)]):
             self.assertIs(is_mend(LEAN, [], value), False, value)
         even = table_of(KNOWN, 4)
         for value, told in (([], True), ((), True), (None, False), ({}, False), ("", False)):
@@ -224,7 +227,8 @@ class TestRefused(Refusing, unittest.TestCase):
     def test_fixed(self):
         for table in (LEAN, Table(LEAN.rounds()[:1])):
             for fixed, position in WRONG_FIXED:
-                for call, *told in ((mend,), (mend_size,), (gauge_of,), (is_mend, None), (shown, None), (shown, [0] * 4)):
+                for call, *told in ((mend,), (mend_size,), (gauge_of,), (is_mend, None), (shown, None),
+                                    (shown, [0] * 4)):
                     self.refused(InvalidFixed, position, call, table, fixed, *told)
 
     def test_not_single(self):

@@ -14,11 +14,13 @@ TWO = [(0, 1, False), (0, 1, True)]
 LONG = Word("hhah", "aha", "haaa")
 ALL_LEGS = [(begin, way, exchanged) for begin in range(4) for way in (1, -1) for exchanged in (False, True)]
 ALONE = [None, True, 0, 1, "", "legs", b"", {}, {0: ONE[0]}, KNOWN, [], ()]
-NO_LEGS = [None, True, 0, "01f", b"01", [], [0, 1, False], (), (0,), (0, 1), (0, 1, False, False), KNOWN, ((0, 1, True),),
-           (-1, 1, False), (4, 1, False), (10 ** 60, 1, False), (True, 1, False), (False, 1, False), (None, 1, False),
-           ("0", 1, False), ([0], 1, False), (0, 0, False), (0, 2, False), (0, -2, False), (0, True, False),
-           (0, None, False), (0, "1", False), (0, 10 ** 60, False), (0, [1], False), (0, 1, 0), (0, 1, 1), (0, 1, None),
-           (0, 1, "False"), (0, 1, [])]
+NO_LEGS = [
+    None, True, 0, "01f", b"01", [], [0, 1, False], (), (0,), (0, 1), (0, 1, False, False), KNOWN, ((0, 1, True),),
+    (-1, 1, False), (4, 1, False), (10 ** 60, 1, False), (True, 1, False), (False, 1, False), (None, 1, False),
+    ("0", 1, False), ([0], 1, False), (0, 0, False), (0, 2, False), (0, -2, False), (0, True, False),
+    (0, None, False), (0, "1", False), (0, 10 ** 60, False), (0, [1], False), (0, 1, 0), (0, 1, 1), (0, 1, None),
+    (0, 1, "False"), (0, 1, []),
+]
 # Sizes that no league has, whatever the rule.
 NEVER_SIZES = NO_INTEGERS + [0, 1, 2, 3, 5, -4, -6, 10 ** 59 + 1, -10 ** 60, "4", KNOWN]
 
