@@ -1,6 +1,5 @@
 """A desk [94]: it leads a league round by round, by commands."""
 
-from ringrows.checks import check_size
 from ringrows.errors import CommandFailed, InvalidCommand, LeagueError, NotRight, StateError
 from ringrows.moves import due_meetings, moves_behind, read_command, results_of, round_open, waiting_meetings
 from ringrows.seats import is_right
@@ -13,7 +12,6 @@ class Desk:
     """A desk: it keeps its table, and its moves in a tuple, a new one for each change."""
 
     def __init__(self, rule, size):
-        check_size(rule, size)
         if not is_right(rule, size):
             raise NotRight(size)
         self._table = table_of(rule, size)

@@ -57,8 +57,7 @@ def gauge_of(table, fixed=()):
 
 
 def gauge_above(table, fixed, number):
-    """A gauge that shows more than a COUNT, None if a mend has so few meetings."""
-    _check(table, fixed)
+    """A gauge that shows more than a COUNT, None if a mend has so few meetings; the table is single."""
     free = _free_meetings(table, fixed)
     net = _filled_net(table, free)
     told = _mend_of(table, free, net)

@@ -1,7 +1,7 @@
 """Seasons [62]: several legs of one rule, one behind another."""
 
 from ringrows.breaks import breaks_at
-from ringrows.checks import check_pair, check_size, check_team, contrary_marks, is_count, is_integer, is_list
+from ringrows.checks import check_size, check_team, contrary_marks, is_count, is_integer, is_list
 from ringrows.counts import bound_of, seats_with
 from ringrows.errors import InvalidCount, InvalidLegs, InvalidSize, TooMany
 from ringrows.forms import fitted_form
@@ -69,7 +69,6 @@ def pair_homes(rule, size, legs, one, other):
     """How often in a season one team meets another one and is at home."""
     check_size(rule, size)
     _check_legs(legs)
-    check_pair(one, other, size)
     # Each leg has each round just once.
     marks = [mark_of(rule, size, one, day) for day in rounds_of(rule, size, one, other)]
     return sum([marks.count("a" if leg[2] else "h") for leg in legs])

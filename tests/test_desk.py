@@ -3,7 +3,7 @@ from random import Random
 
 from ringrows.desk import Desk
 from ringrows.errors import (CommandFailed, InvalidCommand, InvalidSize, NoRound, NotOpen, NothingToUndo, NotRight,
-                             TooMany, Unplayed)
+                             Unplayed)
 from ringrows.rules import Rule
 from ringrows.seats import is_right
 from ringrows.words import Word
@@ -21,7 +21,8 @@ NO_COMMANDS = [
     "next 1", "next next", "next ", "undo 1", "undo undo", "waiting 0", "table 1", "table table", "points", "points ",
     "points  0", "points 0 ", " points 0", "points 0 1", "points 4", "points 10", "points -1", "points -0",
     "points +0", "points 00", "points 01", "points a", "points 0.0", "points\n0", "points 0\n", "points None", "play",
-    "play 1 2", "play 1 2 3", "play 1 2 3 1 0", "play 1 2  3 1", "play  1 2 3 1", " play 1 2 3 1", "play 1 2 3 1 ",
+    "play 1 2", "play 1 2 3", "play 1 2 3 ", "play 1 2  1", "play 1 2 3 1 0", "play 1 2  3 1", "play  1 2 3 1",
+    " play 1 2 3 1", "play 1 2 3 1 ",
     "play 1 2 3 1\n", "play 1-2 3-1", "play 1 1 0 0", "play 1 4 0 0", "play 4 1 0 0", "play 0 24 1 1",
     "play -1 2 0 0", "play 01 2 0 0", "play 1 02 0 0", "play 1 2 00 0", "play 1 2 0 00", "play 1 2 01 0",
     "play 1 2 -1 0", "play 1 2 0 -0", "play 1 2 +1 0", "play 1 2 1.5 0", "play 1 2 x 0", "play 1 2 0 1_0",

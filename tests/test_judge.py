@@ -290,6 +290,12 @@ class TestPapers(unittest.TestCase):
                 for x in range(-1, n + 1):
                     told = 0 <= r < n - 1 and 0 <= x < n - 1 and slow.is_seen(TWICE.cells, r, x)
                     self.assertIs(is_paper(claim, (n, r, x)), told)
+        for n in (4, 6):
+            slow = league(KNOWN, n)
+            for r in range(n + 1):
+                for x in range(n + 1):
+                    told = r < n - 1 and x < n - 1 and slow.is_seen(HOME.cells, r, x)
+                    self.assertIs(is_paper(("seen", KNOWN, HOME), (n, r, x)), told)
         # From the seat 1 in an even round the team comes to the seat 0, at home in both.
         self.accepted(claim, [(10 ** 60, 0, 1), (10 ** 60, 10 ** 59, 10 ** 59 + 1)])
         self.none(claim, [(10 ** 60, 10 ** 59, 10 ** 59), (10 ** 60, 10 ** 59 + 1, 10 ** 59 + 2), (4, False, 1),
@@ -343,6 +349,11 @@ class TestPapers(unittest.TestCase):
         self.none(("no more", KNOWN, HOME, TWICE), [(other, one)])
         self.none(("no more", KNOWN, HOME, TWICE), [(one, other), (one, one), (other, other)])
         self.accepted(("no more", KNOWN, TWICE, TWICE), [(one, one)])
+        # Just one more team is away than at home, in all rounds together.
+        away = long_form(form_of(KNOWN, Picture([(0, 0, "a")])), 12, 2)
+        self.assertIs(is_right_form(KNOWN, Picture([(0, 0, "a")]), away), True)
+        self.none(("no more", KNOWN, Picture([(0, 0, "a")]), HOME), [(away, other)])
+        self.accepted(("no more", KNOWN, HOME, Picture([(0, 0, "a")])), [(other, away)])
 
     def test_right(self):
         for step in range(-7, 8):
@@ -440,6 +451,10 @@ class TestRightForms(unittest.TestCase):
         a, b, c = rows[at]
         for row in ((a, b, c + 1), (a, b - 1, c), (a + 1, b, c)):
             self.assertIs(is_right(Form(first, early, rows[:at] + [row] + rows[at + 1:])), False)
+        # A row that is right at the first two places behind the begin, and at the third one is not.
+        turn = -((at - good.begin) // len(rows))
+        row = (a + 1, b - 2 * turn - 1, c + turn * (turn + 1))
+        self.assertIs(is_right(Form(first, early, rows[:at] + [row] + rows[at + 1:])), False)
 
     def test_pictures(self):
         random = Random(637)
@@ -465,6 +480,15 @@ class TestRightForms(unittest.TestCase):
         # The reduced form has one row only, and no early values.
         self.assertIs(is_right_form(rule=KNOWN, picture=TWICE, value=form), False)
         self.assertIs(is_right_for_breaks(rule=KNOWN, value=breaks_form(KNOWN)), False)
+
+    def test_more_than_twenty_four_rows(self):
+        # Forms that are added, and taken times 0, can have more rows than one that is made.
+        early = [0] * 19 + [5]
+        two, many = Form(1, early, [(0, 0, 0), (0, 0, 1)]), Form(1, early, [(0, 0, 0)] * 12 + [(0, 0, 1)])
+        for form, period in ((two * 0, 2), ((two + many) * 0, 26), ((two + Form(1, [1], [(0, 0, 1)] * 7)) * 0, 2)):
+            self.assertEqual((form.begin, form.period), (21, period))
+            self.assertIs(is_right_form(KNOWN, THRICE, form), period <= 24)
+            self.assertIs(is_paper(("never", KNOWN, THRICE), form), period <= 24)
 
     def test_of_one_picture_and_one_rule_alone(self):
         good = long_form(form_of(KNOWN, TWICE), 12, 2)
